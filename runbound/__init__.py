@@ -1,0 +1,1 @@
+"""Rows of bits whose runs keep told bounds."""

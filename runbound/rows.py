@@ -1,0 +1,43 @@
+"""Rows of bits: their runs and the sums of their signs."""
+
+
+def runs(row):
+    """The list of the runs (bit, many) of a row, each as long as it goes."""
+    told = []
+    start = 0
+    for at in range(1, len(row) + 1):
+        if at == len(row) or row[at] != row[start]:
+            told.append((int(row[start]), at - start))
+            start = at
+    return told
+
+
+def row_by(runs):
+    """The row that has these runs one behind the other."""
+    return "".join([str(bit) * many for bit, many in runs])
+
+
+def exchanged(row):
+    """The row with each bit made the other one."""
+    return "".join(["1" if bit == "0" else "0" for bit in row])
+
+
+def sum_of(row):
+    """The ones of a row less its noughts."""
+    return row.count("1") - row.count("0")
+
+
+def sums(row):
+    """The list of the sums of a row's beginnings, from the empty one to itself."""
+    level = 0
+    told = [level]
+    for bit in row:
+        level += 1 if bit == "1" else -1
+        told.append(level)
+    return told
+
+
+def spread_of(row):
+    """The greatest sum of a row's beginnings less the least."""
+    levels = sums(row)
+    return max(levels) - min(levels)
