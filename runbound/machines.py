@@ -1,21 +1,16 @@
 """Machines: tuples of rooms, each a pair of the rooms to which 0 and 1 lead."""
 
+from runbound.checks import is_pair, is_within
+
 
 def is_lead(thing, many):
     """Whether a bit may lead to it in a machine of so many rooms."""
-    if thing is None:
-        return True
-    # Python counts True and False as whole numbers; here they are none.
-    if isinstance(thing, bool) or not isinstance(thing, int):
-        return False
-    return 0 <= thing < many
+    return thing is None or is_within(thing, 0, many - 1)
 
 
 def is_room(thing, many):
     """Whether it is a room of a machine of so many rooms."""
-    if not isinstance(thing, tuple) or len(thing) != 2:
-        return False
-    return is_lead(thing[0], many) and is_lead(thing[1], many)
+    return is_pair(thing) and is_lead(thing[0], many) and is_lead(thing[1], many)
 
 
 def is_machine(thing):

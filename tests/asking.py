@@ -1,6 +1,48 @@
-"""What all tests of the program share: asking, and looking at all that is told."""
+"""What all tests of the program share: machines, wrong things, asking, and looking at all that is told."""
 
+import itertools
 import unittest
+
+FULL = tuple(((room + 1) % 60, (room + 7) % 60) for room in range(60))
+CHAIN = tuple((room + 1, room + 1) for room in range(59)) + ((None, None),)
+CYCLE = tuple(((room + 1) % 60, None) for room in range(60))
+
+
+def rows_of(many):
+    """The rising list of all rows of so many bits."""
+    return ["".join(bits) for bits in itertools.product("01", repeat=many)]
+
+
+def rows_to(most):
+    """The rising list of all rows of up to so many bits."""
+    return [row for many in range(most + 1) for row in rows_of(many)]
+
+
+def machines_of(many):
+    """All machines of so many rooms."""
+    leads = (None,) + tuple(range(many))
+    return itertools.product(itertools.product(leads, repeat=2), repeat=many)
+
+
+def small_machines():
+    for many in range(4):
+        yield from machines_of(many)
+
+
+def nested(depth, wrap):
+    """A thing wrapped so many times."""
+    thing = wrap(0)
+    for _ in range(depth):
+        thing = wrap(thing)
+    return thing
+
+
+WRAPS = (lambda x: (x,), lambda x: [x], lambda x: (x, x), lambda x: [x, x], lambda x: (0, x), lambda x: (x, 0))
+
+
+def deep_things():
+    """Things nested a little and beyond what a recursion may go down."""
+    return [nested(depth, wrap) for depth in (2, 3, 8, 50000) for wrap in WRAPS]
 
 
 def lists_in(thing):
@@ -56,3 +98,12 @@ class Asking(unittest.TestCase):
         places = [id(each) for each in lists]
         self.assertEqual(len(places), len(set(places)))
         self.assertFalse(set(places) & {id(each) for each in others})
+
+    def refused(self, error, deed, *handed):
+        """Ask twice, and see the same refusal, of its very class, and what was handed in as it was."""
+        before = repr(handed)
+        for _ in range(2):
+            with self.assertRaises(error) as caught:
+                deed(*handed)
+            self.assertIs(error, type(caught.exception))
+            self.assertEqual(before, repr(handed))

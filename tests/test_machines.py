@@ -1,28 +1,14 @@
 import itertools
 import unittest
 
-from asking import Asking
+from asking import CHAIN, CYCLE, FULL, Asking, deep_things, machines_of, rows_of, rows_to, small_machines
 from runbound.machines import is_machine, is_ring, powered, rings, starts, trimmed, walk
 
 # From room 0 both bits lead on; 1 goes back by 0; 2 stays by 1 and leads nowhere by 0.
 PLAIN = ((1, 2), (0, None), (None, 2))
 # Rooms 0 and 1 lead to the ring 2, 3; it leads by 4 to the ring 5; 6 and 7 come from that.
 LONG = ((1, None), (None, 2), (3, None), (2, 4), (5, 5), (5, 6), (7, None), (None, None))
-FULL = tuple(((room + 1) % 60, (room + 7) % 60) for room in range(60))
-CHAIN = tuple((room + 1, room + 1) for room in range(59)) + ((None, None),)
-CYCLE = tuple(((room + 1) % 60, None) for room in range(60))
 GREAT = tuple(((room + 1) % 300, room - 1 if room else None) for room in range(300))
-
-
-def machines_of(many):
-    """All machines of so many rooms."""
-    leads = (None,) + tuple(range(many))
-    return itertools.product(itertools.product(leads, repeat=2), repeat=many)
-
-
-def small_machines():
-    for many in range(4):
-        yield from machines_of(many)
 
 
 def leads_by_closure(machine):
@@ -52,13 +38,6 @@ def endless_by_closure(machine):
         for room in rooms
         if any(leads[one, room] for one in rounds) and any(leads[room, one] for one in rounds)
     ]
-
-
-def nested(depth, wrap):
-    thing = wrap(0)
-    for _ in range(depth):
-        thing = wrap(thing)
-    return thing
 
 
 class IsMachine(Asking):
@@ -111,12 +90,10 @@ class IsMachine(Asking):
             self.told(False, is_machine, ((0, 1), (1, thing)))
 
     def test_nested_deep(self):
-        for depth in (2, 3, 8, 50000):
-            for wrap in (lambda x: (x,), lambda x: [x], lambda x: (x, x), lambda x: [x, x], lambda x: (0, x)):
-                thing = nested(depth, wrap)
-                self.assertIs(False, is_machine(thing))
-                self.assertIs(False, is_machine((thing,)))
-                self.assertIs(False, is_machine(((0, thing),)))
+        for thing in deep_things():
+            self.assertIs(False, is_machine(thing))
+            self.assertIs(False, is_machine((thing,)))
+            self.assertIs(False, is_machine(((0, thing),)))
 
     def test_one_wrong_among_many(self):
         for at in (0, 30, 59):
@@ -166,9 +143,8 @@ class Walk(Asking):
         self.told(None, walk, GREAT, 299, "1" * 300)
 
     def test_bit_by_bit(self):
-        rows = ["".join(bits) for many in range(4) for bits in itertools.product("01", repeat=many)]
         for machine in machines_of(2):
-            for room, row in itertools.product(range(2), rows):
+            for room, row in itertools.product(range(2), rows_to(3)):
                 wanted = room
                 for bit in row:
                     wanted = None if wanted is None else machine[wanted][0 if bit == "0" else 1]
@@ -314,12 +290,10 @@ class IsRing(Asking):
             self.told(False, is_ring, thing)
 
     def test_nested_deep(self):
-        for depth in (2, 3, 8, 50000):
-            for wrap in (lambda x: (x,), lambda x: [x], lambda x: (x, x), lambda x: (0, x)):
-                thing = nested(depth, wrap)
-                self.assertIs(False, is_ring(thing))
-                self.assertIs(False, is_ring((thing,)))
-                self.assertIs(False, is_ring(((0, thing),)))
+        for thing in deep_things():
+            self.assertIs(False, is_ring(thing))
+            self.assertIs(False, is_ring((thing,)))
+            self.assertIs(False, is_ring(((0, thing),)))
 
 
 class Powered(Asking):
@@ -346,7 +320,7 @@ class Powered(Asking):
                   powered, ((1, 1), (1, 1)), 2)
 
     def test_8_bits_and_60_rooms(self):
-        rows = ["".join(bits) for bits in itertools.product("01", repeat=8)]
+        rows = rows_of(8)
         wanted = [[(row, (room + 8 + 6 * row.count("1")) % 60) for row in rows] for room in range(60)]
         self.told(wanted, powered, FULL, 8)
         self.told([[("0" * 8, (room + 8) % 60)] for room in range(60)], powered, CYCLE, 8)
@@ -355,9 +329,8 @@ class Powered(Asking):
     def test_all_walks_of_small_machines(self):
         for machine in machines_of(2):
             for many in (0, 1, 2, 3, 5):
-                rows = ["".join(bits) for bits in itertools.product("01", repeat=many)]
                 wanted = [
-                    [(row, walk(machine, room, row)) for row in rows if walk(machine, room, row) is not None]
+                    [(row, walk(machine, room, row)) for row in rows_of(many) if walk(machine, room, row) is not None]
                     for room in range(2)
                 ]
                 self.assertEqual(repr(wanted), repr(powered(machine, many)))

@@ -1,13 +1,8 @@
 import itertools
 import unittest
 
-from asking import Asking
+from asking import Asking, rows_to
 from runbound.rows import exchanged, row_by, runs, spread_of, sum_of, sums
-
-
-def rows_up_to(many):
-    """All rows of at most so many bits."""
-    return ["".join(bits) for length in range(many + 1) for bits in itertools.product("01", repeat=length)]
 
 
 class Runs(Asking):
@@ -32,7 +27,7 @@ class Runs(Asking):
         self.told([(0, 199), (1, 201)], runs, "0" * 199 + "1" * 201)
 
     def test_each_run_is_as_long_as_it_goes(self):
-        for row in rows_up_to(9):
+        for row in rows_to(9):
             wanted = [(int(bit), len(list(group))) for bit, group in itertools.groupby(row)]
             self.assertEqual(repr(wanted), repr(runs(row)))
 
@@ -57,7 +52,7 @@ class RowBy(Asking):
         self.told("01" * 200, row_by, [(0, 1), (1, 1)] * 200)
 
     def test_it_undoes_runs(self):
-        for row in rows_up_to(9):
+        for row in rows_to(9):
             self.assertEqual(row, row_by(runs(row)))
 
     def test_the_list_handed_in_is_not_kept(self):
@@ -79,7 +74,7 @@ class Exchanged(Asking):
         self.told("01" * 200, exchanged, "10" * 200)
 
     def test_each_bit_becomes_the_other_and_back(self):
-        for row in rows_up_to(8):
+        for row in rows_to(8):
             other = exchanged(row)
             self.assertEqual([(a, b) for a, b in zip(row, other)], [(a, str(1 - int(a))) for a in row])
             self.assertEqual(len(row), len(other))
@@ -126,14 +121,14 @@ class Sums(Asking):
         self.told(1, spread_of, "10" * 200)
 
     def test_all_short_rows(self):
-        for row in rows_up_to(9):
+        for row in rows_to(9):
             levels = [sum(1 if bit == "1" else -1 for bit in row[:many]) for many in range(len(row) + 1)]
             self.assertEqual(repr(levels), repr(sums(row)))
             self.assertEqual(repr(levels[-1]), repr(sum_of(row)))
             self.assertEqual(repr(max(levels) - min(levels)), repr(spread_of(row)))
 
     def test_the_spread_is_the_greatest_sum_of_a_row_within(self):
-        for row in rows_up_to(7):
+        for row in rows_to(7):
             within = [abs(sum_of(row[a:b])) for a in range(len(row) + 1) for b in range(a, len(row) + 1)]
             self.assertEqual(max(within), spread_of(row))
 
