@@ -1,7 +1,7 @@
 """Bounds (low0, high0, low1, high1, spread) of runs and sums, and the rows that keep them."""
 
 from runbound.checks import is_within
-from runbound.machines import trimmed
+from runbound.machines import rooms_behind, trimmed
 
 LONGEST_RUN = 8
 GREATEST_SPREAD = 16
@@ -75,7 +75,7 @@ def fault_at(bounds, row):
     for at, bit in enumerate(row):
         if not rooms:
             return at
-        rooms = sorted({machine[room][int(bit)] for room in rooms if machine[room][int(bit)] is not None})
+        rooms = rooms_behind(machine, rooms, bit)
     return None if rooms else len(row)
 
 

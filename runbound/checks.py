@@ -20,3 +20,18 @@ def is_pair(thing):
 def is_listed(thing):
     """Whether it may stand where a list is named."""
     return isinstance(thing, (list, tuple))
+
+
+def is_row(thing):
+    """Whether it is a row."""
+    return isinstance(thing, str) and all([sign in "01" for sign in thing])
+
+
+def are_numbers(thing, many):
+    """Whether it is a list of so many numbers."""
+    return is_listed(thing) and len(thing) == many and all([is_number(each) for each in thing])
+
+
+def are_sizes(p, q):
+    """Whether both are numbers from 0 on, as those of bits in a part and in a block are."""
+    return is_number(p) and is_number(q) and p >= 0 and q >= 0

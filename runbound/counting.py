@@ -51,16 +51,13 @@ def rows_between(machine, room, goal, many):
     return [row for row, end in walks]
 
 
-def row_at(machine, room, goal, many, number):
-    """The row of rows_between with that many ahead of it."""
-    left = ways(machine, goal, many)
-    if not 0 <= number < left[many][room]:
-        raise NoNumber("no row from the room to the goal has this number")
+def row_left(machine, left, room, number):
+    """The row from a room with that many ahead of it, of as many bits as ways are left for."""
     bits = []
     here = room
     ahead = number
-    for rest in reversed(range(many)):
-        by_nought = behind_bit(machine, left[rest], here, "0")
+    for further in reversed(left[:-1]):
+        by_nought = behind_bit(machine, further, here, "0")
         bit = 0 if ahead < by_nought else 1
         if bit == 1:
             ahead -= by_nought
@@ -69,12 +66,16 @@ def row_at(machine, room, goal, many, number):
     return "".join(bits)
 
 
-def number_of(machine, room, goal, row):
-    """How many rows of rows_between, of as many bits, are ahead of a row."""
-    end = walk(machine, room, row)
-    if end is None or goal not in (None, end):
-        raise NoRow("the row doesn't lead from the room to the goal")
-    left = ways(machine, goal, len(row))
+def row_at(machine, room, goal, many, number):
+    """The row of rows_between with that many ahead of it."""
+    left = ways(machine, goal, many)
+    if not 0 <= number < left[many][room]:
+        raise NoNumber("no row from the room to the goal has this number")
+    return row_left(machine, left, room, number)
+
+
+def number_left(machine, left, room, row):
+    """How many rows from a room are ahead of one of them, of as many bits as ways are left for."""
     ahead = 0
     here = room
     for at, bit in enumerate(row):
@@ -82,6 +83,14 @@ def number_of(machine, room, goal, row):
             ahead += behind_bit(machine, left[len(row) - at - 1], here, "0")
         here = machine[here][int(bit)]
     return ahead
+
+
+def number_of(machine, room, goal, row):
+    """How many rows of rows_between, of as many bits, are ahead of a row."""
+    end = walk(machine, room, row)
+    if end is None or goal not in (None, end):
+        raise NoRow("the row doesn't lead from the room to the goal")
+    return number_left(machine, ways(machine, goal, len(row)), room, row)
 
 
 def last_turn(machine, room, goal, row):

@@ -1,6 +1,6 @@
 """Between which fractions the number of a machine's rows grows, bit by bit."""
 
-from runbound.checks import is_listed, is_number, is_pair
+from runbound.checks import are_numbers, is_number, is_pair
 from runbound.counting import way_sums
 from runbound.machines import is_machine
 
@@ -45,7 +45,7 @@ def growth(machine, steps):
 
 def are_weights(thing, many):
     """Whether it is a list of so many numbers from 1 on."""
-    return is_listed(thing) and len(thing) == many and all([is_number(each) and each >= 1 for each in thing])
+    return are_numbers(thing, many) and all([each >= 1 for each in thing])
 
 
 def shows_growth(machine, low, high, weights):

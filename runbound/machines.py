@@ -35,6 +35,12 @@ def starts(machine, row):
     return [room for room in range(len(machine)) if walk(machine, room, row) is not None]
 
 
+def rooms_behind(machine, rooms, bit):
+    """The rising list of the rooms to which a bit leads from some of these."""
+    leads = [machine[room][int(bit)] for room in rooms]
+    return sorted({lead for lead in leads if lead is not None})
+
+
 def lasting(machine, rooms):
     """Those of these rooms that lead to one of them and to which one of them leads."""
     inside = set(rooms)

@@ -1,4 +1,6 @@
-"""Rows of bits: their runs and the sums of their signs."""
+"""Rows of bits: their runs, the sums of their signs, their blocks, and the numbers they are read as."""
+
+from runbound.errors import BadBits
 
 
 def runs(row):
@@ -41,3 +43,28 @@ def spread_of(row):
     """The greatest sum of a row's beginnings less the least."""
     levels = sums(row)
     return max(levels) - min(levels)
+
+
+def blocks_of(row, many):
+    """The list of a row's blocks of so many bits, a shorter one at its end where they don't come out even."""
+    return [row[at:at + many] for at in range(0, len(row), many)]
+
+
+def whole_blocks(row, many):
+    """The list of a row's blocks of so many bits, none of them shorter."""
+    if len(row) % many:
+        raise BadBits("the number of bits is no multiple of a block's")
+    return blocks_of(row, many)
+
+
+def number_by(bits):
+    """The number that bits are read as, the highest one first."""
+    number = 0
+    for bit in bits:
+        number = number * 2 + int(bit)
+    return number
+
+
+def bits_by(number, many):
+    """The row of so many bits that is read as a number."""
+    return "".join([str(number >> at & 1) for at in reversed(range(many))])

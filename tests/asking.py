@@ -45,6 +45,29 @@ def deep_things():
     return [nested(depth, wrap) for depth in (2, 3, 8, 50000) for wrap in WRAPS]
 
 
+WRONG = [
+    None, True, False, -1, 10 ** 40, -(10 ** 40), "", "x", "2", "0 ", "01\n", "None", (), [], (None,), [None], (True,),
+    [False], ("0",), ["1"], ((),), [[]], ([],), [()], (None, None), ["", ""], (True, False), ((1, 2), (3, (4,))),
+]
+
+
+def changed(thing, wrong=tuple(WRONG)):
+    """What comes of a thing by one change at any depth.
+
+    A part is another thing, gone, twice there, or a list for a tuple and the
+    other way about.
+    """
+    yield from wrong
+    if isinstance(thing, (list, tuple)):
+        kind = type(thing)
+        yield tuple(thing) if kind is list else list(thing)
+        for at, part in enumerate(thing):
+            yield thing[:at] + thing[at + 1:]
+            yield thing[:at] + kind([part]) + thing[at:]
+            for each in changed(part, wrong):
+                yield thing[:at] + kind([each]) + thing[at + 1:]
+
+
 def lists_in(thing):
     """All lists and dicts that stand in a thing, itself too."""
     found = []
