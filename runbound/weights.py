@@ -24,9 +24,9 @@ def walks_to(machine, q):
     return sources
 
 
-def enough(machine, p, q, most):
-    """The greatest weights up to most that are enough for p and q, None where there are none."""
-    weights = [most for room in machine]
+def greatest_within(machine, p, q, limits):
+    """The greatest weights that are enough for p and q, none above its limit; all 0 where there are none."""
+    weights = list(limits)
     sums = walk_sums(machine, weights, q)
     sources = walks_to(machine, q)
     # No weights that are enough lie above these at any time, so those that are left are the greatest.
@@ -39,6 +39,12 @@ def enough(machine, p, q, most):
             for source in sources[room]:
                 sums[source] -= lost
             waiting.extend(sources[room])
+    return weights
+
+
+def enough(machine, p, q, most):
+    """The greatest weights up to most that are enough for p and q, None where there are none."""
+    weights = greatest_within(machine, p, q, [most for room in machine])
     return weights if any(weights) else None
 
 

@@ -37,7 +37,10 @@ def nodes():
 
 class NothingFromOutside(unittest.TestCase):
     def test_there_are_files(self):
-        wanted = "__init__ errors rows bounds machines kinds counting growth weights tables joints writers".split()
+        wanted = (
+            "__init__ errors rows bounds machines kinds counting growth weights tables joints writers splitting "
+            "windows sums stuffing"
+        ).split()
         self.assertLessEqual({name + ".py" for name in wanted}, {path.name for path in files()})
 
     def test_only_own_modules_are_drawn_in(self):

@@ -107,8 +107,8 @@ class IsWriter(Asking):
             self.told(False, is_writer, ((("00", wrong), ("01", 1)), (("10", 0), ("11", 1))), 1, 2)
 
     def test_rows_that_are_none(self):
-        wrongs = ["", "0", "000", "02", "0?", "0 ", " 0", "0\n", "\n0", "\u0661\u0660", None, 0, 10, ("0", "0"), ["0", "1"]]
-        for wrong in wrongs:
+        wrongs = ["", "0", "000", "02", "0?", "0 ", " 0", "0\n", "\n0", "\u0661\u0660", None, 0, 10]
+        for wrong in wrongs + [("0", "0"), ["0", "1"]]:
             self.told(False, is_writer, ((("00", 0), (wrong, 1)), (("10", 0), ("11", 1))), 1, 2)
 
     def test_other_things(self):
