@@ -52,7 +52,7 @@ def shows_enough(machine, p, q, weights):
     """Whether weights is a list of numbers that are enough for p and q."""
     if not (is_machine(machine) and are_sizes(p, q) and are_numbers(weights, len(machine))):
         return False
-    if min(weights, default=0) < 0 or not any(weights):
+    if not any(weights) or min(weights) < 0:
         return False
     return all([way >> p >= own for own, way in zip(weights, walk_sums(machine, weights, q))])
 

@@ -62,9 +62,9 @@ def read_all(writer, p, q, room, row):
 
 
 def common_beginning(one, other):
-    """The longest row with which both of two rows begin."""
+    """The longest row with which two rows of as many bits begin."""
     many = 0
-    while many < min(len(one), len(other)) and one[many] == other[many]:
+    while many < len(one) and one[many] == other[many]:
         many += 1
     return one[:many]
 

@@ -2,9 +2,9 @@ import functools
 import itertools
 import unittest
 
-from asking import CHAIN, CYCLE, FULL, Asking, rows_of, rows_to, small_machines
+from asking import CHAIN, CYCLE, FULL, Asking, machines_of, rows_of, rows_to, small_machines
 from runbound.bounds import keeps, machine_of
-from runbound.joints import filled, fillings, joint, joint_between
+from runbound.joints import filled, fillings, first_joint, joint, joint_between
 from runbound.machines import starts, walk
 
 GOLDEN = ((0, 1), (0, None))
@@ -66,6 +66,17 @@ class Joint(Asking):
         for machine in small_machines():
             for a, b in itertools.product(range(len(machine)), repeat=2):
                 self.assertEqual(repr(joint_by_rows(machine, a, b)), repr(joint(machine, a, b)))
+
+    def test_from_several_rooms_at_once(self):
+        # To room 2 lead 1 from room 0 and 0 from room 1; to room 6 lead 100 and 000 so.
+        machine = ((3, 2), (2, None), (4, None), (None, None), (6, None), (None, None), (None, None))
+        self.told("0", first_joint, machine, [0, 1], [2])
+        self.told("000", first_joint, machine, [0, 1], [6])
+        for machine in list(machines_of(3))[::5]:
+            rows = [(row, [walk(machine, room, row) for room in (0, 1)]) for row in rows_to(3)]
+            for goal in range(3):
+                wanted = next((row for row, ends in rows if goal in ends), None)
+                self.assertEqual(wanted, first_joint(machine, [0, 1], [goal]))
 
     def test_60_rooms(self):
         self.told("0" * 59, joint, CHAIN, 0, 59)

@@ -1,11 +1,12 @@
 import itertools
+import random
 import unittest
 
 from asking import CHAIN, Asking, changed, deep_things, machines_of, rows_of
 from runbound.bounds import keeps, machine_of
 from runbound.kinds import lessened
 from runbound.machines import powered, walk
-from runbound.splitting import shows_writer, split_writer
+from runbound.splitting import even_part, shows_writer, split_writer
 from runbound.weights import enough, shows_enough
 from runbound.writers import is_writer, look_ahead, surely, written
 
@@ -38,6 +39,23 @@ def questions():
                 weights = enough(machine, p, q, most)
                 if weights is not None and sum(weights) <= 20:
                     yield machine, p, q, weights
+
+
+def some_machines(many):
+    """So many machines of up to 12 rooms, the same ones each time, with p, q and weights that are enough."""
+    dice = random.Random(8)
+    told = []
+    while len(told) < many:
+        rooms = dice.randint(2, 12)
+        leads = [None] + list(range(rooms)) * dice.choice((1, 3))
+        machine = tuple((dice.choice(leads), dice.choice(leads)) for _ in range(rooms))
+        p, q = dice.randint(1, 4), dice.randint(1, 8)
+        if max(map(len, powered(machine, q))) <= 40:
+            weights = next(filter(None, (enough(machine, p, q, most) for most in range(1, 12))), None)
+            # Weights of 1 alone need no room to be split.
+            if weights is not None and 1 < max(weights) and sum(weights) <= 20:
+                told.append((machine, p, q, weights))
+    return told
 
 
 def shows_by_words(machine, p, q, writer, under, ahead):
@@ -126,6 +144,18 @@ class SplitWriter(Asking):
                         told = split_writer(machine, p, q, weights)
                         self.assertIs(True, shows_writer(machine, p, q, *told), (machine, p, q, weights))
 
+    def test_some_machines_whose_rooms_are_split(self):
+        for machine, p, q, weights in some_machines(60):
+            writer, under, ahead = self.shown(machine, p, q, weights)
+            self.assertLessEqual(len(writer), sum(weights))
+
+    def test_no_more_is_split_than_need_be(self):
+        # Weights that are many times others which are enough ask for no longer look ahead.
+        for weights in ([2, 1], [4, 2], [12, 8], [13, 7]):
+            self.assertTrue(shows_enough(GOLDEN, 2, 3, weights))
+            writer, under, ahead = split_writer(GOLDEN, 2, 3, weights)
+            self.assertEqual((3, 1), (len(writer), ahead))
+
     def test_what_is_written_can_be_walked_and_is_surely_read(self):
         bits = "011010011100010111011000100101" * 4
         for machine, p, q, weights in questions():
@@ -156,6 +186,21 @@ class SplitWriter(Asking):
         weights[0] = 0
         under.clear()
         self.assertEqual(before, repr(split_writer(GOLDEN, 2, 3, [12, 8])))
+
+
+class EvenPart(unittest.TestCase):
+    def test_both_parts_have_a_weight_of_their_own(self):
+        dice = random.Random(3)
+        for many, greatest, ways in itertools.product((2, 4, 8, 16), range(2, 8), range(30)):
+            weights = [dice.randint(1, greatest - 1)] + [greatest] * many
+            weights += [dice.randint(1, greatest) for _ in range(ways)]
+            rooms = [(0, weight, []) for weight in weights]
+            # The least weight stands last of all rows, so that it is not met by chance.
+            led = [(format(len(rooms) - end, "08b"), end) for end in range(len(rooms))][::-1]
+            part, times = even_part(rooms, led, many)
+            self.assertEqual(times * many, sum(weights[end] for row, end in part))
+            self.assertTrue(0 < times < greatest)
+            self.assertEqual(len(part), len(set(part) & set(led)))
 
 
 class ShowsWriter(Asking):
@@ -192,6 +237,12 @@ class ShowsWriter(Asking):
         for under in ([], [0], [0, 1, 0], [0, 2], [-1, 1], [-2, -1], [0, None], [False, 1], [0, True], [0, "1"], "01",
                       None, 0, {}.get(0), [[0], [1]], [(0,), (1,)], (0, 1, 1), 10 ** 40, [0, 10 ** 40]):
             self.told(False, shows_writer, GOLDEN, 1, 2, self.WRITER, under, 0)
+
+    def test_a_room_to_which_no_door_leads(self):
+        alone = ((("0", 0), ("1", 0)), (("0", 0), ("1", 0)))
+        self.told(True, shows_writer, BOTH, 1, 1, alone, [0, 0], 0)
+        for room in (-1, 1, None, True, False, "0"):
+            self.told(False, shows_writer, BOTH, 1, 1, alone, [0, room], 0)
 
     def test_without_rooms(self):
         self.told(False, shows_writer, (), 1, 1, ((("0", 0), ("1", 0)),), [0], 0)
